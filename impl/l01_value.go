@@ -135,11 +135,7 @@ func ArrayValue(list [][]Cell) ValueResult {
 	if code := firstFault(list); code != OK {
 		return ValueResult{Code: code}
 	}
-	v := []Cell{{Kind: KindArray, N: int64(len(list))}}
-	for _, part := range list {
-		v = appendPart(v, part, "")
-	}
-	return checkedValue(v)
+	return checkedValue(layArray(list))
 }
 
 func ObjectValue(keys []string, list [][]Cell) ValueResult {
@@ -154,12 +150,7 @@ func ObjectValue(keys []string, list [][]Cell) ValueResult {
 	if code := firstFault(list); code != OK {
 		return ValueResult{Code: code}
 	}
-	places := standingMembers(keys)
-	v := []Cell{{Kind: KindObject, N: int64(len(places))}}
-	for _, place := range places {
-		v = appendPart(v, list[place], keys[place])
-	}
-	return checkedValue(v)
+	return checkedValue(layObject(keys, list))
 }
 
 func Truthy(v []Cell) bool {
@@ -270,6 +261,26 @@ func appendPart(v []Cell, part []Cell, key string) []Cell {
 	first := len(v)
 	v = append(v, part...)
 	v[first].Key = key
+	return v
+}
+
+// layArray lays the elements behind their array, however many they are.
+func layArray(list [][]Cell) []Cell {
+	v := []Cell{{Kind: KindArray, N: int64(len(list))}}
+	for _, part := range list {
+		v = appendPart(v, part, "")
+	}
+	return v
+}
+
+// layObject lays the members behind their object, however many they are: of
+// several of one key the last one.
+func layObject(keys []string, list [][]Cell) []Cell {
+	places := standingMembers(keys)
+	v := []Cell{{Kind: KindObject, N: int64(len(places))}}
+	for _, place := range places {
+		v = appendPart(v, list[place], keys[place])
+	}
 	return v
 }
 

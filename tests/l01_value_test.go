@@ -567,24 +567,6 @@ func callAll(keys []string, a, b cells, at int64) []any {
 	}
 }
 
-// scribble writes over every list of an answer.
-func scribble(answers []any) {
-	for _, answer := range answers {
-		switch x := answer.(type) {
-		case impl.ValueResult:
-			x.Value = x.Value[:cap(x.Value)]
-			for i := range x.Value {
-				x.Value[i] = impl.Cell{Kind: 99, Num: -5, Text: "\n", Key: "\n", N: 99}
-			}
-		case impl.IntsResult:
-			x.List = x.List[:cap(x.List)]
-			for i := range x.List {
-				x.List[i] = -77
-			}
-		}
-	}
-}
-
 // P1: arguments stay as they are, answers are new memory and hang on the
 // arguments alone, and stand apart from one another.
 func TestArgumentsStayAndAnswersAreNew(t *testing.T) {
@@ -602,6 +584,7 @@ func TestArgumentsStayAndAnswersAreNew(t *testing.T) {
 		for _, at := range []int64{math.MinInt64, -1, 0, 1, int64(len(a)) - 1, int64(len(a)), math.MaxInt64} {
 			first := callAll(keys, a, b[:len(b)-1], at)
 			kept := callAll(keys, a, b[:len(b)-1], at)
+			checkApart(t, first, a, b, keys)
 			scribble(first)
 			again := callAll(keys, a, b[:len(b)-1], at)
 			if !reflect.DeepEqual(kept, again) {
