@@ -97,7 +97,7 @@ func PartAt(v []Cell, at int64) ValueResult {
 	if code := placeFault(v, at); code != OK {
 		return ValueResult{Code: code}
 	}
-	return ValueResult{Value: appendPart(nil, v[at:endOf(v, at)], "")}
+	return ValueResult{Value: partOf(v, at)}
 }
 
 func CompareValues(a []Cell, b []Cell) int64 {
@@ -253,6 +253,11 @@ func childPlaces(v []Cell, at int64) []int64 {
 		next = endOf(v, next)
 	}
 	return places
+}
+
+// partOf is the value at at by itself.
+func partOf(v []Cell, at int64) []Cell {
+	return appendPart(nil, v[at:endOf(v, at)], "")
 }
 
 // appendPart lays a copy of part behind v; its first cell gets key in place of

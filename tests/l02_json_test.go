@@ -253,8 +253,8 @@ func badTexts() []readCase {
 		{`"` + long, impl.ErrText, 62}, {`"` + long + "\n\"", impl.ErrText, 62}, {`"` + long + `\n"`, impl.ErrText, 63},
 		{"[", impl.ErrText, 1}, {"[ ", impl.ErrText, 2}, {"[1", impl.ErrText, 2}, {"[1,", impl.ErrText, 3}, {"[1,]", impl.ErrText, 3}, {"[,]", impl.ErrText, 1}, {"[,1]", impl.ErrText, 1}, {"[1,,2]", impl.ErrText, 3}, {"[1;2]", impl.ErrText, 2}, {"[1}", impl.ErrText, 2}, {"[}", impl.ErrText, 1}, {"[1:2]", impl.ErrText, 2}, {"[]]", impl.ErrText, 2}, {"[] []", impl.ErrText, 3}, {"[1]1", impl.ErrText, 3}, {"]", impl.ErrText, 0},
 		{"{", impl.ErrText, 1}, {"{1:2}", impl.ErrText, 1}, {"{a:1}", impl.ErrText, 1}, {`{"a"`, impl.ErrText, 4}, {`{"a"}`, impl.ErrText, 4}, {`{"a" 1}`, impl.ErrText, 5}, {`{"a":`, impl.ErrText, 5}, {`{"a":}`, impl.ErrText, 5}, {`{"a":1`, impl.ErrText, 6}, {`{"a":1,`, impl.ErrText, 7}, {`{"a":1,}`, impl.ErrText, 7}, {`{"a":1 , }`, impl.ErrText, 9}, {`{"a":1]`, impl.ErrText, 6}, {`{"a":1 "b":2}`, impl.ErrText, 7}, {`{,}`, impl.ErrText, 1}, {`{"a",1}`, impl.ErrText, 4}, {`{"a"::1}`, impl.ErrText, 5}, {`{]`, impl.ErrText, 1}, {`{"a":1}}`, impl.ErrText, 7}, {`{"a`, impl.ErrText, 3}, {`{null:1}`, impl.ErrText, 1}, {`{[]:1}`, impl.ErrText, 1}, {"}", impl.ErrText, 0}, {",", impl.ErrText, 0}, {":", impl.ErrText, 0}, {`"a":1`, impl.ErrText, 3}, {"1,2", impl.ErrText, 1},
-		{deep(21), impl.ErrDeep, 20}, {deep(20) + "1", impl.ErrDeep, 20}, {deep(20) + "x", impl.ErrDeep, 20}, {deep(20) + ",", impl.ErrDeep, 20}, {deep(20) + "}", impl.ErrDeep, 20}, {deep(20) + "\x00", impl.ErrDeep, 20}, {deep(20) + " \t1", impl.ErrDeep, 22}, {deep(20), impl.ErrDeep, 20}, {deep(20) + "\"\n", impl.ErrDeep, 20},
-		{deep(19) + `{"a": 1}`, impl.ErrDeep, 25}, {deep(19) + `{"a":`, impl.ErrDeep, 24}, {deep(19) + `{"a":}`, impl.ErrDeep, 24}, {deep(19) + `{"a" 1}`, impl.ErrText, 24}, {deep(19) + `{a`, impl.ErrText, 20}, {deep(19) + `{`, impl.ErrText, 20},
+		{deep(21), impl.ErrDeep, 20}, {deep(20) + "1", impl.ErrDeep, 20}, {deep(20) + "x", impl.ErrDeep, 20}, {deep(20) + ",", impl.ErrDeep, 20}, {deep(20) + "}", impl.ErrDeep, 20}, {deep(20) + "\x00", impl.ErrDeep, 20}, {deep(20) + " \t1", impl.ErrDeep, 22}, {deep(20) + "\"\n", impl.ErrDeep, 20}, {deep(20), impl.ErrText, 20}, {deep(20) + " ", impl.ErrText, 21}, {" [ " + deep(19) + " \t\r\n", impl.ErrText, 26}, {deep(19) + "[],[ ", impl.ErrText, 24},
+		{deep(19) + `{"a": 1}`, impl.ErrDeep, 25}, {deep(19) + `{"a":}`, impl.ErrDeep, 24}, {deep(19) + `{"a":`, impl.ErrText, 24}, {deep(19) + `{"a" : `, impl.ErrText, 26}, {deep(19) + `{"a":` + "\x00", impl.ErrDeep, 24}, {deep(19) + `{"a" 1}`, impl.ErrText, 24}, {deep(19) + `{a`, impl.ErrText, 20}, {deep(19) + `{`, impl.ErrText, 20},
 		{deep(19) + "[],[2]", impl.ErrDeep, 23}, {"[" + strings.Repeat("[],", 100) + deep(20), impl.ErrDeep, 320}, {`{"a":` + deep(20) + `,"a":1}`, impl.ErrDeep, 24},
 		{strings.Repeat("[", 4000), impl.ErrDeep, 20}, {deep(20) + strings.Repeat("]", 19), impl.ErrText, 39}, {deep(20) + strings.Repeat("]", 21), impl.ErrText, 40},
 		{"[" + many + "]", impl.ErrMany, 0}, {"[" + many, impl.ErrText, 400}, {"[" + many + "] x", impl.ErrText, 402}, {" [" + many + ",01]", impl.ErrText, 403}, {`{"a":[` + many + `]}`, impl.ErrMany, 0}, {"[" + many + "," + `"` + long + `"]`, impl.ErrMany, 401},
@@ -270,6 +270,39 @@ func TestDecodeErrors(t *testing.T) {
 		}
 		if m := modelDecode(c.text); m.Code != c.code || m.At != c.at {
 			t.Errorf("%.80q: the model has code %d at %d, want code %d at %d", c.text, m.Code, m.At, c.code, c.at)
+		}
+	}
+}
+
+// A text that ends where a value is to begin ends too early, at the deepest
+// place as at any other; with a byte there that value is too deep.
+func TestDecodeEndsAtTheDeepest(t *testing.T) {
+	for depth := 1; depth <= impl.MaxDepth; depth++ {
+		for _, last := range []string{"[", "{\"a\":", "{ \"a\" : ", "{\"b\":{},\"a\":"} {
+			for _, outer := range []string{"[", " [ ", "{\"k\":", "[[],"} {
+				for _, blanks := range []string{"", " ", "\t", "\r\n", strings.Repeat(" \n", 100)} {
+					text := strings.Repeat(outer, depth-1) + last + blanks
+					want := impl.ReadResult{Code: impl.ErrText, At: int64(len(text))}
+					if depth == impl.MaxDepth && strings.Contains(last, "{}") {
+						want = impl.ReadResult{Code: impl.ErrDeep, At: int64(strings.Index(text, "{}"))}
+					}
+					if got := impl.DecodeValue(text); !reflect.DeepEqual(got, want) {
+						t.Errorf("%q: %v, want %v", text, got, want)
+					}
+				}
+			}
+		}
+	}
+	for _, open := range []string{"[", "{\"a\":"} {
+		text := strings.Repeat(open, impl.MaxDepth) + " "
+		for b := range 256 {
+			if strings.IndexByte(" \t\r\n", byte(b)) >= 0 || b == ']' && open == "[" {
+				continue
+			}
+			want := impl.ReadResult{Code: impl.ErrDeep, At: int64(len(text))}
+			if got := impl.DecodeValue(text + string([]byte{byte(b)})); !reflect.DeepEqual(got, want) {
+				t.Errorf("%q and byte %d: %v, want %v", text, b, got, want)
+			}
 		}
 	}
 }
@@ -445,6 +478,9 @@ func TestDecodeLines(t *testing.T) {
 		{"1\n2\nx\n1.5\n", impl.LinesResult{Code: impl.ErrText, Line: 2}},
 		{"1\n1.5\nx\n", impl.LinesResult{Code: impl.ErrRange, Line: 1}},
 		{"1\n" + strings.Repeat("[", 21), impl.LinesResult{Code: impl.ErrDeep, Line: 1}},
+		{"1\n" + strings.Repeat("[", 20), impl.LinesResult{Code: impl.ErrText, Line: 1}},
+		{"1\n" + strings.Repeat("[", 20) + " \n1", impl.LinesResult{Code: impl.ErrText, Line: 1}},
+		{strings.Repeat("{\"a\":", 20) + "\n1}", impl.LinesResult{Code: impl.ErrText}},
 		{"1\n2\n3\n\"" + strings.Repeat("x", 61) + "\"", impl.LinesResult{Code: impl.ErrMany, Line: 3}},
 		{"1\n[" + strings.Repeat("1,", 199) + "1]\n", impl.LinesResult{Code: impl.ErrMany, Line: 1}},
 		{"1 2\n", impl.LinesResult{Code: impl.ErrText}},

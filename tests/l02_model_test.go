@@ -131,6 +131,8 @@ func (m *automaton) beginValue(at, b int) bool {
 	words := map[int]string{'n': "ull", 'f': "alse", 't': "rue"}
 	m.begin = at
 	switch {
+	case b == -1:
+		return m.fail(impl.ErrText, at)
 	case len(m.open) >= 20:
 		return m.fail(impl.ErrDeep, at)
 	case words[b] != "":
