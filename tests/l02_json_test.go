@@ -345,8 +345,22 @@ func TestShortTextsAgainstModel(t *testing.T) {
 	shortTexts(`"`+strings.Repeat("x", 58), []string{"x", `\"`, `\u0078`, `"`, "\n", `\`}, 5, check)
 }
 
-// Every byte in place of, and ahead of, every byte of texts with all that may
-// stand in one; and every beginning of them.
+// changedTexts calls do with every beginning and every end of a text, and with
+// every byte in place of, and ahead of, every byte of it.
+func changedTexts(text string, do func(string)) {
+	for at := range len(text) + 1 {
+		do(text[:at])
+		do(text[at:])
+		for b := range 256 {
+			do(text[:at] + string([]byte{byte(b)}) + text[at:])
+			if at < len(text) {
+				do(text[:at] + string([]byte{byte(b)}) + text[at+1:])
+			}
+		}
+	}
+}
+
+// The texts have all that may stand in one.
 func TestChangedTextsAgainstModel(t *testing.T) {
 	texts := []string{
 		` {"b" : [ ] , "a":"x\u0041"}`,
@@ -359,16 +373,7 @@ func TestChangedTextsAgainstModel(t *testing.T) {
 		`"` + strings.Repeat("y", 59) + `"`,
 	}
 	for _, text := range texts {
-		for at := range len(text) + 1 {
-			checkDecode(t, text[:at])
-			checkDecode(t, text[at:])
-			for b := range 256 {
-				checkDecode(t, text[:at]+string([]byte{byte(b)})+text[at:])
-				if at < len(text) {
-					checkDecode(t, text[:at]+string([]byte{byte(b)})+text[at+1:])
-				}
-			}
-		}
+		changedTexts(text, func(text string) { checkDecode(t, text) })
 	}
 }
 
