@@ -1,6 +1,7 @@
 package tests
 
 import (
+	"maps"
 	"math"
 	"reflect"
 	"slices"
@@ -508,9 +509,11 @@ func TestVarsOf(t *testing.T) {
 	cases := map[string]string{
 		".": "", "$x": "", "$x | $y": "", "f(1)": "", "{x:1}": "", `"x"`: "",
 		". as $x | 1": "x", ". as $x | $y": "x", "reduce . as $x (1;2)": "x", ". as $if | 1": "if",
-		// In the order of the nodes, each of which stands behind those in it.
-		". as $x | . as $y | 1": "y x", ". as $y | . as $x | 1": "x y", "(. as $x | 1) | . as $y | 2": "x y", "(. as $b | 1) , (. as $a | 2) , (. as $c | 3)": "b a c",
-		". as $x | . as $x | 1": "x", "(. as $x | 1) , (. as $y | 2) , (. as $x | 3)": "x y", "(. as $x | 1) , reduce . as $x (1;2)": "x", "reduce . as $y (. as $x | 1; . as $z | 2)": "x z y", "(. as $x | 1) as $y | . as $z | reduce . as $x (1;2)": "x z y", "reduce reduce . as $c (1;2) as $b (1;2) | . as $a | 1": "c b a",
+		// In the order of texts, wherever the nodes stand.
+		". as $x | . as $y | 1": "x y", ". as $y | . as $x | 1": "x y", "(. as $x | 1) | . as $y | 2": "x y", "(. as $y | 1) | . as $x | 2": "x y", "(. as $y | .) , (. as $x | .)": "x y", "(. as $b | 1) , (. as $a | 2) , (. as $c | 3)": "a b c",
+		". as $x | . as $x | 1": "x", "(. as $x | 1) , (. as $y | 2) , (. as $x | 3)": "x y", "(. as $y | 1) , (. as $x | 2) , (. as $y | 3)": "x y", "(. as $x | 1) , reduce . as $x (1;2)": "x", "reduce . as $y (. as $x | 1; . as $z | 2)": "x y z", "(. as $x | 1) as $y | . as $z | reduce . as $x (1;2)": "x y z", "reduce reduce . as $c (1;2) as $b (1;2) | . as $a | 1": "a b c",
+		// Byte by byte: a beginning comes first, digits ahead of _ ahead of letters.
+		". as $ab | . as $b | . as $a | 1": "a ab b", ". as $x_ | . as $xa | . as $x9 | . as $x10 | . as $x | 1": "x x10 x9 x_ xa", ". as $then | . as $if | . as $end | 1": "end if then", ". as $" + name12 + " | . as $a | 1": "a " + name12,
 	}
 	for text, want := range cases {
 		got := impl.VarsOf(treeOf(text))
@@ -519,22 +522,31 @@ func TestVarsOf(t *testing.T) {
 		}
 	}
 	// Members and calls have a Text, too, but no variable's.
-	for _, tree := range smallTrees(heads(), 3) {
-		got := impl.VarsOf(tree.nodes())
-		var want []string
-		if modelTreeFault(tree.nodes()) == 0 {
-			for _, n := range tree.nodes() {
-				if n.Op == 19 || n.Op == 20 {
-					want = append(slices.DeleteFunc(want, func(s string) bool { return s == n.Text }), n.Text)
-				}
-			}
-			slices.Sort(want)
+	for size := 1; size <= 5; size++ {
+		list := heads()
+		if size > 3 {
+			list = []*branch{br(impl.NodeSelf), br(impl.NodeAs).named("x"), br(impl.NodeAs).named("y"), br(impl.NodeReduce).named("w"), br(impl.NodeCallOne).named("v"), br(impl.NodeVar).named("z")}
 		}
-		slices.Sort(got.Names)
-		if got.Code != modelTreeFault(tree.nodes()) || !slices.Equal(got.Names, want) {
-			t.Errorf("%s: %v, want %v", tree, got, want)
+		for _, tree := range smallTrees(list, size) {
+			got, want := impl.VarsOf(tree.nodes()), modelVars(tree.nodes())
+			if got.Code != want.Code || !slices.Equal(got.Names, want.Names) {
+				t.Errorf("%s: %v, want %v", tree, got, want)
+			}
 		}
 	}
+}
+
+func modelVars(tree []node) impl.NamesResult {
+	if fault := modelTreeFault(tree); fault != 0 {
+		return impl.NamesResult{Code: fault}
+	}
+	names := map[string]bool{}
+	for _, n := range tree {
+		if n.Op == 19 || n.Op == 20 {
+			names[n.Text] = true
+		}
+	}
+	return impl.NamesResult{Names: slices.Sorted(maps.Keys(names))}
 }
 
 func TestUsesOf(t *testing.T) {
