@@ -24,16 +24,15 @@ func sameRun(a, b impl.RunResult) bool {
 }
 
 // checkFuels holds what a core makes against the model, with every fuel from 0
-// to more than it spends (of many those at both ends).
+// to more than it spends (of more than 2000 those at both ends).
 func checkFuels(t *testing.T, w *twig, v cells) {
 	t.Helper()
-	all := modelTrail(w, sampleOf(v), nil)
-	list, spends := w.nodes(), all.spends()
+	list, spends := w.nodes(), modelRun(w, v, impl.MaxFuel).Spent
 	for fuel := int64(0); fuel <= min(spends+2, impl.MaxFuel); fuel++ {
-		if fuel == 40 && spends > 80 {
+		if fuel == 40 && spends > 2000 {
 			fuel = spends - 40
 		}
-		want := all.run(fuel)
+		want := modelRun(w, v, fuel)
 		if got := impl.MeanCore(list, v, fuel); !sameRun(got, want) {
 			t.Fatalf("%s of %s with %d: %s, want %s", short(w), short(v), fuel, short(ranAs(got)), short(ranAs(want)))
 		}
@@ -67,9 +66,10 @@ func TestMeanLeaves(t *testing.T) {
 func TestMeanPipe(t *testing.T) {
 	checkMeans(t, []meanCase{
 		{"pipe(None self)", "7", "~2"}, {"pipe(One None)", "7", "~3"}, {"pipe(One self)", "7", "1 ~3"}, {"pipe(self self)", "7", "7 ~3"}, {"pipe(Two self)", "7", "1 2 ~6"}, {"pipe(Two comma(self const=7))", "null", "1 7 2 7 ~10"}, {"pipe(Two None)", "7", "~6"},
-		{"pipe(None Fails)", "7", "~2"}, {"pipe(Fails self)", "7", "!1 ~2"}, {"pipe(Fails None)", "7", "!1 ~2"}, {"pipe(OneFails self)", "7", "1 !1 ~5"}, {"pipe(OneFails None)", "7", "!1 ~5"}, {"pipe(Two comma(self do:8))", "7", "1 !1 ~6"},
-		// What is behind the first code is never made.
-		{"pipe(Two Fails)", "7", "!1 ~4"}, {"pipe(OneFails do:2)", "7", "!6 ~4"}, {"pipe(Two bin:10(const=4 bin:2(self const=2)))", "7", "-4 !3 ~14"}, {"pipe(pipe(Two Two) comma(self Fails))", "7", "1 !1 ~9"},
+		{"pipe(None Fails)", "7", "~2"}, {"pipe(Fails self)", "7", "!1 ~2"}, {"pipe(Fails None)", "7", "!1 ~2"}, {"pipe(OneFails self)", "7", "1 !1 ~5"}, {"pipe(OneFails None)", "7", "!1 ~5"}, {"pipe(Two comma(self do:8))", "7", "1 !1 ~7"},
+		// A's list is made and spent, whole; what is behind the first code in it is
+		// not gone through, A's own code among it.
+		{"pipe(Two Fails)", "7", "!1 ~5"}, {"pipe(OneFails do:2)", "7", "!6 ~5"}, {"pipe(Two bin:10(const=4 bin:2(self const=2)))", "7", "-4 !3 ~14"}, {"pipe(pipe(Two Two) comma(self Fails))", "7", "1 !1 ~14"}, {"pipe(comma(Two Two) Fails)", "7", "!1 ~9"}, {"pipe(comma(Two Two) pipe(Two Fails))", "7", "!1 ~13"},
 	})
 }
 
@@ -89,7 +89,7 @@ func TestMeanAlt(t *testing.T) {
 		// B is made of the node's value, and its values and code are what they are.
 		{"alt(const=null self)", "7", "7 ~3"}, {"alt(None None)", "7", "~3"}, {"alt(None Two)", "7", "1 2 ~5"}, {"alt(None const=null)", "7", "null ~3"}, {"alt(const=null comma(const=false const=null))", "7", "false null ~5"}, {"alt(None Fails)", "7", "!1 ~3"}, {"alt(Fails OneFails)", "7", "1 !1 ~5"}, {"alt(do:2 Fails)", "7", "!1 ~3"}, {"alt(One Fails)", "7", "1 ~2"},
 		// A code that comes of what it made is not its own.
-		{"pipe(alt(Two const=9) Fails)", "7", "!1 ~5"}, {"pipe(alt(Fails const=9) Fails)", "7", "!1 ~5"}, {"alt(pipe(Two Fails) const=9)", "7", "9 ~6"}, {"comma(alt(OneFails const=9) One)", "7", "1 1 ~6"}, {"alt(alt(Fails const=false) const=9)", "7", "9 ~5"},
+		{"pipe(alt(Two const=9) Fails)", "7", "!1 ~6"}, {"pipe(alt(Fails const=9) Fails)", "7", "!1 ~5"}, {"alt(pipe(Two Fails) const=9)", "7", "9 ~7"}, {"alt(each(Two) const=9)", "7", "9 ~6"}, {"comma(alt(OneFails const=9) One)", "7", "1 1 ~6"}, {"alt(alt(Fails const=false) const=9)", "7", "9 ~5"},
 	})
 }
 
@@ -99,7 +99,7 @@ func TestMeanBin(t *testing.T) {
 		{"bin:2(const=7 const=2)", "null", "5 ~3"}, {"bin:2(self const=2)", "7", "5 ~3"}, {"bin:2(const=2 self)", "7", "-5 ~3"}, {"bin:2(Two comma(const=10 const=20))", "null", "-9 -8 -19 -18 ~10"}, {"bin:2(comma(const=10 const=20) Two)", "null", "9 19 8 18 ~10"}, {"bin:1(One Two)", "null", "2 3 ~6"}, {"bin:1(Two One)", "null", "2 3 ~5"},
 		{`bin:1(comma(const="a" const="b") comma(const="c" const="d"))`, "null", `"ac" "bc" "ad" "bd" ~10`}, {"bin:6(Two Two)", "null", "false false true false ~10"}, {"bin:11(const=7 comma(const=2 const=4))", "null", "1 3 ~6"},
 		{"bin:1(None None)", "null", "~2"}, {"bin:1(None Two)", "null", "~6"}, {"bin:1(Two None)", "null", "~2"}, {"bin:1(Fails None)", "null", "~2"}, {"bin:1(None Fails)", "null", "!1 ~2"}, {"bin:1(Fails do:2)", "7", "!6 ~2"}, {"bin:1(do:2 Fails)", "7", "!1 ~2"},
-		{"bin:1(OneFails Two)", "null", "2 !1 ~6"}, {"bin:1(Two OneFails)", "null", "2 3 !1 ~7"}, {"bin:1(OneFails OneFails)", "null", "2 !1 ~6"}, {"bin:1(None OneFails)", "null", "!1 ~5"}, {"bin:10(Two comma(const=1 const=0))", "null", "1 2 !3 ~9"}, {"bin:10(Two comma(const=0 const=1))", "null", "!3 ~5"}, {`bin:1(const="a" One)`, "null", "!6 ~3"}, {`bin:1(comma(const=1 const="a") One)`, "null", "2 !6 ~5"},
+		{"bin:1(OneFails Two)", "null", "2 !1 ~7"}, {"bin:1(Two OneFails)", "null", "2 3 !1 ~7"}, {"bin:1(OneFails OneFails)", "null", "2 !1 ~7"}, {"bin:1(None OneFails)", "null", "!1 ~5"}, {"bin:10(Two comma(const=1 const=0))", "null", "1 2 !3 ~10"}, {"bin:10(Two comma(const=0 const=1))", "null", "!3 ~7"}, {"bin:10(OneFails const=0)", "null", "!3 ~5"}, {`bin:1(const="a" One)`, "null", "!6 ~3"}, {`bin:1(comma(const=1 const="a") One)`, "null", "2 !6 ~5"},
 	})
 	for op := range int64(11) {
 		for _, a := range []string{"7", `"a"`, "[1,2]", "null"} {
@@ -122,23 +122,23 @@ func TestMeanAt(t *testing.T) {
 		// B is of the node's value, not of a.
 		{`at(const={"k":5} self)`, `"k"`, "5 ~3"}, {"at(self self)", "null", "!6 ~3"},
 		{"at(None Two)", "null", "~2"}, {"at(const=[5] None)", "null", "~3"}, {"at(comma(self self) None)", "[5]", "~6"}, {"at(None Fails)", "null", "~2"}, {"at(Fails None)", "null", "!1 ~2"}, {"at(Fails do:2)", "7", "!1 ~2"}, {"at(do:2 Fails)", "7", "!6 ~2"},
-		{"at(self OneFails)", "[3,4]", "4 !1 ~5"}, {"at(comma(self do:8) Two)", "[3,4,5]", "4 5 !1 ~7"}, {"at(comma(self do:8) OneFails)", "[3,4,5]", "4 !1 ~6"}, {"at(comma(self do:8) None)", "[3]", "!1 ~5"}, {"at(Two const=0)", "null", "!6 ~4"}, {"at(comma(self const=1) const=0)", "[3]", "3 !6 ~6"}, {"at(self comma(const=0 const=null))", "[3]", "3 !6 ~5"},
+		{"at(self OneFails)", "[3,4]", "4 !1 ~5"}, {"at(comma(self do:8) Two)", "[3,4,5]", "4 5 !1 ~7"}, {"at(comma(self do:8) OneFails)", "[3,4,5]", "4 !1 ~7"}, {"at(comma(self do:8) None)", "[3]", "!1 ~5"}, {"at(Two const=0)", "null", "!6 ~5"}, {"at(Two Two)", "null", "!6 ~7"}, {"at(comma(const=1 do:8) OneFails)", "null", "!6 ~7"}, {"at(comma(self const=1) const=0)", "[3]", "3 !6 ~6"}, {"at(self comma(const=0 const=null))", "[3]", "3 !6 ~5"},
 	})
 }
 
 func TestMeanEach(t *testing.T) {
 	checkMeans(t, []meanCase{
 		{"each(self)", "[1,[2]]", "1 [2] ~2"}, {"each(self)", `{"b":1,"a":{"c":2}}`, `{"c":2} 1 ~2`}, {"each(self)", "[]", "~2"}, {"each(self)", "{}", "~2"}, {"each(self)", "7", "!6 ~2"}, {"each(self)", "null", "!6 ~2"}, {"each(each(self))", "[[1,2],[],[3]]", "1 2 3 ~3"}, {"each(each(self))", "[[1,2],3,[4]]", "1 2 !6 ~3"},
-		{"each(None)", "[1]", "~2"}, {"each(Fails)", "[1]", "!1 ~2"}, {"each(comma(const=[1,2] const=[3]))", "null", "1 2 3 ~4"}, {"each(comma(const=[] const=[4]))", "null", "4 ~4"}, {"each(comma(const=[1,2] const=3))", "null", "1 2 !6 ~4"}, {"each(comma(const=[1,2] do:8))", "null", "1 2 !1 ~4"}, {"each(comma(const=3 const=[1]))", "null", "!6 ~3"}, {"each(comma(const=[] do:8))", "null", "!1 ~4"},
+		{"each(None)", "[1]", "~2"}, {"each(Fails)", "[1]", "!1 ~2"}, {"each(comma(const=[1,2] const=[3]))", "null", "1 2 3 ~4"}, {"each(comma(const=[] const=[4]))", "null", "4 ~4"}, {"each(comma(const=[1,2] const=3))", "null", "1 2 !6 ~4"}, {"each(comma(const=[1,2] do:8))", "null", "1 2 !1 ~4"}, {"each(comma(const=3 const=[1]))", "null", "!6 ~4"}, {"each(OneFails)", "null", "!6 ~4"}, {"each(comma(const=[] do:8))", "null", "!1 ~4"},
 	})
 }
 
 func TestMeanTry(t *testing.T) {
 	checkMeans(t, []meanCase{
 		{"try(None)", "7", "~2"}, {"try(One)", "7", "1 ~2"}, {"try(self)", "7", "7 ~2"}, {"try(Two)", "7", "1 2 ~4"}, {"try(const=null)", "7", "null ~2"}, {"try(comma(const=false const=null))", "7", "false null ~4"}, {"try(Fails)", "7", "~2"}, {"try(do:2)", "7", "~2"}, {"try(OneFails)", "7", "1 ~4"}, {"try(comma(Two Fails))", "7", "1 2 ~6"}, {"try(comma(Fails Two))", "7", "~3"},
-		{"comma(try(OneFails) const=9)", "7", "1 9 ~6"}, {"try(try(Fails))", "7", "~3"}, {"try(comma(try(OneFails) Fails))", "7", "1 ~7"}, {"comma(try(One) Fails)", "7", "1 !1 ~4"}, {"try(pipe(Two Fails))", "7", "~5"},
+		{"comma(try(OneFails) const=9)", "7", "1 9 ~6"}, {"try(try(Fails))", "7", "~3"}, {"try(comma(try(OneFails) Fails))", "7", "1 ~7"}, {"comma(try(One) Fails)", "7", "1 !1 ~4"}, {"try(pipe(Two Fails))", "7", "~6"}, {"try(each(Two))", "7", "~5"},
 		// A code that comes of what it made is not its own.
-		{"pipe(try(Two) Fails)", "7", "!1 ~5"}, {"pipe(try(comma(const=0 const=2)) bin:10(const=6 self))", "7", "!3 ~7"}, {"pipe(comma(const=0 const=2) try(bin:10(const=6 self)))", "7", "3 ~12"}, {"each(try(self))", "7", "!6 ~3"}, {"try(each(self))", "7", "~3"}, {"bin:10(const=6 try(const=0))", "7", "!3 ~4"}, {"try(bin:10(const=6 comma(const=0 const=2)))", "7", "~5"},
+		{"pipe(try(Two) Fails)", "7", "!1 ~6"}, {"pipe(try(comma(const=0 const=2)) bin:10(const=6 self))", "7", "!3 ~8"}, {"pipe(comma(const=0 const=2) try(bin:10(const=6 self)))", "7", "3 ~12"}, {"each(try(self))", "7", "!6 ~3"}, {"try(each(self))", "7", "~3"}, {"bin:10(const=6 try(const=0))", "7", "!3 ~4"}, {"try(bin:10(const=6 comma(const=0 const=2)))", "7", "~6"},
 	})
 }
 
@@ -164,9 +164,9 @@ func TestMeanList(t *testing.T) {
 	}{
 		// 199 numbers are as many as there can be.
 		{comma(each, one), 0, 5}, {comma(each, one, one), impl.ErrMany, 7}, {comma(one, each, one), impl.ErrMany, 7}, {far, 0, 2}, {comma(far, one), impl.ErrMany, 4}, {comma(far, far), impl.ErrMany, 4},
-		// The first that is too much ends it: what is behind is not made, and no
-		// other code is asked.
-		{comma(each, one, one, one), impl.ErrMany, 8}, {comma(each, one, one, fails), impl.ErrMany, 8}, {comma(each, one, fails, one), impl.ErrForm, 8}, {comma(each, each), impl.ErrMany, 6}, {comma(each, each, fails), impl.ErrMany, 7}, {comma(deep, each, one, one), impl.ErrDeep, 5}, {comma(each, one, one, deep), impl.ErrMany, 8}, {comma(each, deep), impl.ErrMany, 5}, {comma(one, deep, fails), impl.ErrDeep, 5}, {comma(one, fails, deep), impl.ErrForm, 5}, {deep, impl.ErrDeep, 2}, {tw(impl.CoreConst).valued(nested(19)), 0, 2},
+		// The first that is too much ends it: what is behind was made, but no other
+		// code is asked.
+		{comma(each, one, one, one), impl.ErrMany, 9}, {comma(each, one, one, fails), impl.ErrMany, 9}, {comma(each, one, fails, one), impl.ErrForm, 8}, {comma(each, each), impl.ErrMany, 6}, {comma(each, each, fails), impl.ErrMany, 8}, {comma(deep, each, one, one), impl.ErrDeep, 9}, {comma(each, one, one, deep), impl.ErrMany, 9}, {comma(each, deep), impl.ErrMany, 5}, {comma(one, deep, fails), impl.ErrDeep, 6}, {comma(one, fails, deep), impl.ErrForm, 5}, {deep, impl.ErrDeep, 2}, {tw(impl.CoreConst).valued(nested(19)), 0, 2},
 	}
 	for _, c := range cases {
 		w := tw(impl.CoreList, c.w)
@@ -182,7 +182,7 @@ func TestMeanList(t *testing.T) {
 func TestMeanMember(t *testing.T) {
 	checkMeans(t, []meanCase{
 		{`member="k"(const={} Two)`, "null", `{"k":1} {"k":2} ~5`}, {`member="k"(comma(const={"a":0} const={"k":0}) Two)`, "null", `{"a":0,"k":1} {"a":0,"k":2} {"k":1} {"k":2} ~10`}, {`member=""(const={} self)`, "7", `{"":7} ~3`}, {`member="b"(const={"a":1,"c":3} const=2)`, "null", `{"a":1,"b":2,"c":3} ~3`}, {`member="k"(const=null One)`, "null", `{"k":1} ~3`}, {`member="k"(self self)`, `{"a":1}`, `{"a":1,"k":{"a":1}} ~3`},
-		{`member="k"(None Two)`, "null", "~2"}, {`member="k"(const={} None)`, "null", "~3"}, {`member="k"(None Fails)`, "null", "~2"}, {`member="k"(Fails None)`, "null", "!1 ~2"}, {`member="k"(Fails do:2)`, "7", "!1 ~2"}, {`member="k"(do:2 Fails)`, "7", "!6 ~2"}, {`member="k"(const={} OneFails)`, "null", `{"k":1} !1 ~5`}, {`member="k"(comma(const={} do:8) One)`, "null", `{"k":1} !1 ~5`}, {`member="k"(One One)`, "null", "!6 ~3"}, {`member="k"(comma(const={} const=1) One)`, "null", `{"k":1} !6 ~6`}, {`member="k"(comma(const=1 const={}) Two)`, "null", "!6 ~5"},
+		{`member="k"(None Two)`, "null", "~2"}, {`member="k"(const={} None)`, "null", "~3"}, {`member="k"(None Fails)`, "null", "~2"}, {`member="k"(Fails None)`, "null", "!1 ~2"}, {`member="k"(Fails do:2)`, "7", "!1 ~2"}, {`member="k"(do:2 Fails)`, "7", "!6 ~2"}, {`member="k"(const={} OneFails)`, "null", `{"k":1} !1 ~5`}, {`member="k"(comma(const={} do:8) One)`, "null", `{"k":1} !1 ~5`}, {`member="k"(One One)`, "null", "!6 ~3"}, {`member="k"(comma(const={} const=1) One)`, "null", `{"k":1} !6 ~6`}, {`member="k"(comma(const=1 const={}) Two)`, "null", "!6 ~7"},
 	})
 }
 
@@ -192,7 +192,7 @@ func TestMeanIf(t *testing.T) {
 		// B and C are of the node's value.
 		{"if(const=1 self None)", "7", "7 ~3"}, {"if(const=null None self)", "7", "7 ~3"}, {"if(self self const=9)", "7", "7 ~3"}, {"if(self const=8 self)", "false", "false ~3"},
 		{"if(None const=8 const=9)", "7", "~2"}, {"if(Two None const=9)", "7", "~6"}, {"if(comma(const=1 const=null) const=8 const=9)", "7", "8 9 ~6"}, {"if(comma(const=null const=1) const=8 const=9)", "7", "9 8 ~6"}, {"if(Two Two const=9)", "7", "1 2 1 2 ~10"}, {"if(comma(const=false const=1) Two comma(const=3 const=4))", "7", "3 4 1 2 ~10"},
-		{"if(Fails const=8 const=9)", "7", "!1 ~2"}, {"if(OneFails const=8 const=9)", "7", "8 !1 ~5"}, {"if(One Fails const=9)", "7", "!1 ~3"}, {"if(One const=8 Fails)", "7", "8 ~3"}, {"if(const=null Fails const=9)", "7", "9 ~3"}, {"if(const=null const=8 OneFails)", "7", "1 !1 ~5"}, {"if(comma(const=1 const=false) Fails const=9)", "7", "!1 ~4"}, {"if(comma(const=false const=1) Fails const=9)", "7", "9 !1 ~6"}, {"if(None Fails Fails)", "7", "~2"},
+		{"if(Fails const=8 const=9)", "7", "!1 ~2"}, {"if(OneFails const=8 const=9)", "7", "8 !1 ~5"}, {"if(One Fails const=9)", "7", "!1 ~3"}, {"if(One const=8 Fails)", "7", "8 ~3"}, {"if(const=null Fails const=9)", "7", "9 ~3"}, {"if(const=null const=8 OneFails)", "7", "1 !1 ~5"}, {"if(comma(const=1 const=false) Fails const=9)", "7", "!1 ~5"}, {"if(comma(const=false const=1) Fails const=9)", "7", "9 !1 ~6"}, {"if(None Fails Fails)", "7", "~2"},
 	})
 }
 
@@ -205,14 +205,14 @@ func TestMeanReduce(t *testing.T) {
 		{"reduce:0(None const=10 Fails)", "null", "10 ~3"}, {"reduce:0(None Two Fails)", "null", "1 2 ~6"}, {"reduce:0(Two None Fails)", "null", "~2"}, {"reduce:0(Fails None Fails)", "null", "~2"},
 		// For each of B as a state, for each of A.
 		{"reduce:0(One Two bin:1(self var:0))", "null", "2 3 ~12"}, {"reduce:0(Two comma(const=10 const=20) bin:1(self var:0))", "null", "13 23 ~22"}, {`reduce:0(comma(const="a" const="b") comma(const="x" const="y") bin:1(self var:0))`, "null", `"xab" "yab" ~22`},
-		{"reduce:0(Two const=10 Fails)", "null", "!1 ~5"}, {"reduce:0(Two const=10 OneFails)", "null", "!1 ~7"}, {"reduce:0(Fails const=10 self)", "null", "!1 ~3"}, {"reduce:0(OneFails const=10 self)", "null", "!1 ~6"}, {"reduce:0(Two Fails self)", "null", "!1 ~2"}, {"reduce:0(Fails do:2 self)", "7", "!6 ~2"}, {"reduce:0(do:2 Fails self)", "7", "!1 ~2"}, {"reduce:0(One OneFails self)", "null", "1 !1 ~6"}, {"reduce:0(comma(const=1 const=0) Two bin:10(self var:0))", "null", "!3 ~12"}, {"reduce:0(One comma(const=1 const=false) bin:1(self var:0))", "null", "2 !6 ~12"}, {"reduce:0(OneFails Two self)", "null", "!1 ~7"}, {"reduce:0(Two const=10 try(Fails))", "null", "null ~9"},
+		{"reduce:0(Two const=10 Fails)", "null", "!1 ~6"}, {"reduce:0(Two const=10 OneFails)", "null", "!1 ~8"}, {"reduce:0(Fails const=10 self)", "null", "!1 ~3"}, {"reduce:0(OneFails const=10 self)", "null", "!1 ~6"}, {"reduce:0(Two Fails self)", "null", "!1 ~2"}, {"reduce:0(Fails do:2 self)", "7", "!6 ~2"}, {"reduce:0(do:2 Fails self)", "7", "!1 ~2"}, {"reduce:0(One OneFails self)", "null", "1 !1 ~6"}, {"reduce:0(comma(const=1 const=0) Two bin:10(self var:0))", "null", "!3 ~13"}, {"reduce:0(One comma(const=1 const=false) bin:1(self var:0))", "null", "2 !6 ~12"}, {"reduce:0(OneFails Two self)", "null", "!1 ~8"}, {"reduce:0(Two Two Fails)", "null", "!1 ~8"}, {"reduce:0(Two const=10 try(Fails))", "null", "null ~9"},
 	})
 }
 
 // A variable is that of the innermost one about it, whatever is bound beside it.
 func TestMeanVariables(t *testing.T) {
 	checkMeans(t, []meanCase{
-		{"as:0(Two var:0)", "7", "1 2 ~6"}, {"as:0(self var:0)", "7", "7 ~3"}, {"as:59(One var:59)", "7", "1 ~3"}, {"as:0(None Fails)", "7", "~2"}, {"as:0(One None)", "7", "~3"}, {"as:0(Fails One)", "7", "!1 ~2"}, {"as:0(OneFails var:0)", "7", "1 !1 ~5"}, {"as:0(Two Fails)", "7", "!1 ~4"}, {"as:0(Two OneFails)", "7", "1 !1 ~6"}, {"as:0(Two comma(var:0 self))", "7", "1 7 2 7 ~10"}, {"as:0(Two const=9)", "7", "9 9 ~6"},
+		{"as:0(Two var:0)", "7", "1 2 ~6"}, {"as:0(self var:0)", "7", "7 ~3"}, {"as:59(One var:59)", "7", "1 ~3"}, {"as:0(None Fails)", "7", "~2"}, {"as:0(One None)", "7", "~3"}, {"as:0(Fails One)", "7", "!1 ~2"}, {"as:0(OneFails var:0)", "7", "1 !1 ~5"}, {"as:0(Two Fails)", "7", "!1 ~5"}, {"as:0(Two OneFails)", "7", "1 !1 ~7"}, {"as:0(Two comma(var:0 self))", "7", "1 7 2 7 ~10"}, {"as:0(Two const=9)", "7", "9 9 ~6"},
 		{"as:0(const=1 as:1(const=2 comma(var:0 var:1)))", "7", "1 2 ~7"}, {"as:1(const=1 as:0(const=2 comma(var:0 var:1)))", "7", "2 1 ~7"}, {"as:0(Two as:1(comma(const=8 const=9) bin:3(var:0 var:1)))", "7", "8 9 16 18 ~24"},
 		// One slot within itself, beside itself, and while the other one goes on.
 		{"as:0(const=1 as:0(const=2 var:0))", "7", "2 ~5"}, {"as:0(const=1 as:0(var:0 var:0))", "7", "1 ~5"}, {"as:0(const=1 comma(as:0(const=2 var:0) var:0))", "7", "2 1 ~7"}, {"as:0(const=1 comma(var:0 as:0(const=2 var:0)))", "7", "1 2 ~7"}, {"as:0(as:0(const=3 var:0) var:0)", "7", "3 ~5"},
@@ -263,8 +263,8 @@ func TestMeanFuels(t *testing.T) {
 		"empty":                                      "!8 ~0; ~1; ~1",
 		"do:8":                                       "!8 ~0; !1 ~1; !1 ~1",
 		"comma(self self)":                           "!8 ~0; !8 ~1; 7 !8 ~2; 7 7 ~3; 7 7 ~3",
-		"pipe(Two self)":                             "!8 ~0; !8 ~1; !8 ~2; !8 ~3; 1 !8 ~4; 1 !8 ~5; 1 2 ~6; 1 2 ~6",
-		"pipe(OneFails self)":                        "!8 ~0; !8 ~1; !8 ~2; !8 ~3; 1 !8 ~4; 1 !1 ~5; 1 !1 ~5",
+		"pipe(Two self)":                             "!8 ~0; !8 ~1; !8 ~2; !8 ~3; !8 ~4; 1 !8 ~5; 1 2 ~6; 1 2 ~6",
+		"pipe(OneFails self)":                        "!8 ~0; !8 ~1; !8 ~2; !8 ~3; !8 ~4; 1 !1 ~5; 1 !1 ~5",
 		"bin:1(Two One)":                             "!8 ~0; !8 ~1; !8 ~2; !8 ~3; 2 !8 ~4; 2 3 ~5; 2 3 ~5",
 		"at(const=[4,5] comma(const=0 const=1))":     "!8 ~0; !8 ~1; !8 ~2; !8 ~3; 4 !8 ~4; 4 5 ~5; 4 5 ~5",
 		`member="k"(const={} Two)`:                   `!8 ~0; !8 ~1; !8 ~2; !8 ~3; {"k":1} !8 ~4; {"k":1} {"k":2} ~5; {"k":1} {"k":2} ~5`,
@@ -279,9 +279,16 @@ func TestMeanFuels(t *testing.T) {
 		"alt(alt(Fails Fails) const=9)":              "!8 ~0; !8 ~1; !8 ~2; !8 ~3; !8 ~4; 9 ~5; 9 ~5",
 		"list(Two)":                                  "!8 ~0; !8 ~1; !8 ~2; !8 ~3; [1,2] ~4; [1,2] ~4",
 		"list(try(OneFails))":                        "!8 ~0; !8 ~1; !8 ~2; !8 ~3; !8 ~4; [1] ~5; [1] ~5",
-		"if(Two self None)":                          "!8 ~0; !8 ~1; !8 ~2; !8 ~3; 7 !8 ~4; 7 !8 ~5; 7 7 ~6; 7 7 ~6",
-		"reduce:0(One Two var:0)":                    "!8 ~0; !8 ~1; !8 ~2; !8 ~3; !8 ~4; 1 !8 ~5; 1 !8 ~6; 1 !8 ~7; 1 1 ~8; 1 1 ~8",
-		"as:0(Two var:0)":                            "!8 ~0; !8 ~1; !8 ~2; !8 ~3; 1 !8 ~4; 1 !8 ~5; 1 2 ~6; 1 2 ~6",
+		"if(Two self None)":                          "!8 ~0; !8 ~1; !8 ~2; !8 ~3; !8 ~4; 7 !8 ~5; 7 7 ~6; 7 7 ~6",
+		"reduce:0(One Two var:0)":                    "!8 ~0; !8 ~1; !8 ~2; !8 ~3; !8 ~4; !8 ~5; 1 !8 ~6; 1 !8 ~7; 1 1 ~8; 1 1 ~8",
+		// A code that is met in a list that was cut short is the code.
+		"each(Two)":                              "!8 ~0; !8 ~1; !8 ~2; !6 ~3; !6 ~4; !6 ~4",
+		"try(each(Two))":                         "!8 ~0; !8 ~1; !8 ~2; !8 ~3; ~4; ~5; ~5",
+		"alt(each(Two) const=9)":                 "!8 ~0; !8 ~1; !8 ~2; !8 ~3; !8 ~4; !8 ~5; 9 ~6; 9 ~6",
+		"comma(try(each(Two)) const=9)":          "!8 ~0; !8 ~1; !8 ~2; !8 ~3; !8 ~4; !8 ~5; !8 ~6; 9 ~7; 9 ~7",
+		"bin:10(Two comma(const=0 const=1))":     "!8 ~0; !8 ~1; !8 ~2; !8 ~3; !8 ~4; !8 ~5; !3 ~6; !3 ~7; !3 ~7",
+		"list(each(comma(const=[1,2] const=3)))": "!8 ~0; !8 ~1; !8 ~2; !8 ~3; !8 ~4; !6 ~5; !6 ~5",
+		"as:0(Two var:0)":                        "!8 ~0; !8 ~1; !8 ~2; !8 ~3; !8 ~4; 1 !8 ~5; 1 2 ~6; 1 2 ~6",
 	}
 	for text, want := range cases {
 		list := namedTwigs(meanParts, text).nodes()

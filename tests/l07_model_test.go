@@ -10,62 +10,63 @@ import (
 	"loop.example/g00166/impl"
 )
 
-// trail is all that a node spends and makes of a value, in order, with fuel
-// enough: what it does with less is a piece of it.
-type trail struct {
-	steps []step
-	code  int64
+// fueled is how much there is to be spent, and how much was.
+type fueled struct{ fuel, spent int64 }
+
+// listed is a list that was made, and the code at its end.
+type listed struct {
+	list []sample
+	code int64
 }
 
-// step is a value that was made, or one that was spent.
-type step struct{ out *sample }
-
-func (t *trail) put(r impl.ValueResult) {
-	if t.code = r.Code; r.Code == 0 {
-		s := sampleOf(r.Value)
-		t.steps = append(t.steps, step{&s})
+func (l *listed) put(r impl.ValueResult) {
+	if l.code = r.Code; r.Code == 0 {
+		l.list = append(l.list, sampleOf(r.Value))
 	}
 }
 
-func (t *trail) join(other trail) {
-	t.steps, t.code = append(t.steps, other.steps...), other.code
+func (l *listed) join(other listed) {
+	l.list, l.code = append(l.list, other.list...), other.code
 }
 
-// through goes on with what is made of each that the other one makes.
-func (t *trail) through(other trail, do func(x sample) trail) {
-	for _, s := range other.steps {
-		if s.out == nil {
-			t.steps = append(t.steps, s)
-		} else if t.join(do(*s.out)); t.code != 0 {
-			return
+// each goes through a list that is made already.
+func (l listed) each(do func(x sample) listed) (all listed) {
+	for _, x := range l.list {
+		if all.join(do(x)); all.code != 0 {
+			return all
 		}
 	}
-	t.code = other.code
+	all.code = l.code
+	return all
 }
 
-func modelTrail(w *twig, v sample, vars map[int64]sample) trail {
-	t := trail{steps: []step{{}}}
-	of := func(i int) trail { return modelTrail(w.kids[i], v, vars) }
+// modelList is what a twig makes of a value: a list that is made to its end, with
+// its code, ahead of anything that is made of it.
+func (f *fueled) modelList(w *twig, v sample, vars map[int64]sample) (l listed) {
+	if f.spent == f.fuel {
+		return listed{code: impl.ErrFuel}
+	}
+	f.spent++
+	of := func(i int) listed { return f.modelList(w.kids[i], v, vars) }
 	pair := func(outer, inner int, do func(x, y sample) impl.ValueResult) {
-		t.through(of(outer), func(x sample) (rounds trail) {
-			rounds.through(of(inner), func(y sample) (one trail) { one.put(do(x, y)); return one })
-			return rounds
+		l = of(outer).each(func(x sample) listed {
+			return of(inner).each(func(y sample) (one listed) { one.put(do(x, y)); return one })
 		})
 	}
 	switch w.op {
 	case impl.CoreSelf:
-		t.put(made(v.v))
+		l.list = []sample{v}
 	case impl.CoreConst:
-		t.put(made(w.val))
+		l.put(made(w.val))
 	case impl.CoreVar:
-		t.put(made(vars[w.num].v))
+		l.list = []sample{vars[w.num]}
 	case impl.CoreDo:
-		t.put(modelNative(w.num, v))
+		l.put(modelNative(w.num, v))
 	case impl.CorePipe:
-		t.through(of(0), func(x sample) trail { return modelTrail(w.kids[1], x, vars) })
+		l = of(0).each(func(x sample) listed { return f.modelList(w.kids[1], x, vars) })
 	case impl.CoreComma:
-		if t.join(of(0)); t.code == 0 {
-			t.join(of(1))
+		if l.join(of(0)); l.code == 0 {
+			l.join(of(1))
 		}
 	case impl.CoreBin:
 		pair(1, 0, func(b, a sample) impl.ValueResult { return modelBinary(w.num, a, b) })
@@ -74,21 +75,33 @@ func modelTrail(w *twig, v sample, vars map[int64]sample) trail {
 	case impl.CoreMember:
 		pair(0, 1, func(a, b sample) impl.ValueResult { return modelSetKey(a, w.val[0].Text, b) })
 	case impl.CoreEach:
-		t.through(of(0), modelEachTrail)
+		l = of(0).each(modelParts)
 	case impl.CoreTry:
-		t.steps = append(t.steps, of(0).steps...)
+		l = of(0).unfailing()
 	case impl.CoreAlt:
-		modelAlt(&t, of(0), func() trail { return of(1) })
+		l = of(0).unfailing()
+		l.list = slices.DeleteFunc(l.list, func(x sample) bool { return modelFalse(x) == 1 })
+		if len(l.list) == 0 && l.code == 0 {
+			l = of(1)
+		}
 	case impl.CoreList:
-		modelList(&t, of(0))
+		l = modelGathered(of(0))
 	case impl.CoreIf:
-		t.through(of(0), func(x sample) trail { return of(1 + modelFalse(x)) })
+		l = of(0).each(func(x sample) listed { return of(1 + modelFalse(x)) })
 	case impl.CoreAs:
-		t.through(of(0), func(x sample) trail { return modelTrail(w.kids[1], v, withVar(vars, w.num, x)) })
+		l = of(0).each(func(x sample) listed { return f.modelList(w.kids[1], v, withVar(vars, w.num, x)) })
 	case impl.CoreReduce:
-		t.through(of(1), func(state sample) trail { return modelReduced(w, v, vars, state) })
+		l = of(1).each(func(state sample) listed { return f.modelReduced(w, v, vars, state) })
 	}
-	return t
+	return l
+}
+
+// unfailing leaves the code out, but ErrFuel.
+func (l listed) unfailing() listed {
+	if l.code != impl.ErrFuel {
+		l.code = 0
+	}
+	return l
 }
 
 // modelFalse is 1 for null and false.
@@ -109,87 +122,58 @@ func withVar(vars map[int64]sample, slot int64, x sample) map[int64]sample {
 	return more
 }
 
-func modelEachTrail(s sample) (t trail) {
+func modelParts(s sample) (l listed) {
 	parts := modelEach(s)
 	for _, part := range parts.Parts {
-		t.put(made(part))
+		l.put(made(part))
 	}
-	t.code = parts.Code
-	return t
+	l.code = parts.Code
+	return l
 }
 
-func modelAlt(t *trail, a trail, b func() trail) {
-	kept := slices.DeleteFunc(slices.Clone(a.steps), func(s step) bool { return s.out != nil && modelFalse(*s.out) == 1 })
-	t.steps = append(t.steps, kept...)
-	if !slices.ContainsFunc(kept, func(s step) bool { return s.out != nil }) {
-		t.join(b())
-	}
-}
-
-func modelList(t *trail, a trail) {
+func modelGathered(a listed) (l listed) {
 	var list []cells
-	for _, s := range a.steps {
-		if s.out == nil {
-			t.steps = append(t.steps, s)
-			continue
-		}
-		list = append(list, s.out.v)
-		if t.code = modelFault(arr(list...)); t.code != 0 {
-			return
+	for _, x := range a.list {
+		list = append(list, x.v)
+		if l.code = modelFault(arr(list...)); l.code != 0 {
+			return l
 		}
 	}
-	if t.code = a.code; t.code == 0 {
-		t.put(made(arr(list...)))
+	if l.code = a.code; l.code == 0 {
+		l.put(made(arr(list...)))
 	}
+	return l
 }
 
-func modelReduced(w *twig, v sample, vars map[int64]sample, state sample) (t trail) {
-	a := modelTrail(w.kids[0], v, vars)
-	for _, s := range a.steps {
-		if s.out == nil {
-			t.steps = append(t.steps, s)
-			continue
+func (f *fueled) modelReduced(w *twig, v sample, vars map[int64]sample, state sample) listed {
+	a := f.modelList(w.kids[0], v, vars)
+	for _, x := range a.list {
+		c := f.modelList(w.kids[2], state, withVar(vars, w.num, x))
+		if c.code != 0 {
+			return listed{code: c.code}
 		}
-		c := modelTrail(w.kids[2], state, withVar(vars, w.num, *s.out))
 		state = sampleOf(null())
-		for _, s := range c.steps {
-			if s.out == nil {
-				t.steps = append(t.steps, s)
-			} else {
-				state = *s.out
-			}
-		}
-		if t.code = c.code; t.code != 0 {
-			return t
+		if len(c.list) > 0 {
+			state = c.list[len(c.list)-1]
 		}
 	}
-	if t.code = a.code; t.code == 0 {
-		t.put(made(state.v))
+	if a.code != 0 {
+		return listed{code: a.code}
 	}
-	return t
+	return listed{list: []sample{state}}
 }
 
-// run is the piece of a trail that this fuel is enough for.
-func (t trail) run(fuel int64) impl.RunResult {
-	r := impl.RunResult{Code: t.code}
-	for _, s := range t.steps {
-		if s.out != nil {
-			r.Outs = append(r.Outs, s.out.v)
-		} else if r.Spent == fuel {
-			r.Code = impl.ErrFuel
-			break
-		} else {
-			r.Spent++
-		}
+func modelRun(w *twig, v cells, fuel int64) impl.RunResult {
+	f := fueled{fuel: fuel}
+	l := f.modelList(w, sampleOf(v), nil)
+	r := impl.RunResult{Code: l.code, Spent: f.spent}
+	for _, x := range l.list {
+		r.Outs = append(r.Outs, x.v)
 	}
 	if len(r.Outs) > 300 {
 		r.Code, r.Outs = impl.ErrMany, r.Outs[:300]
 	}
 	return r
-}
-
-func (t trail) spends() int64 {
-	return t.run(1 << 40).Spent
 }
 
 func modelFirst(r impl.RunResult) impl.ValueResult {
