@@ -315,24 +315,11 @@ func TestMeanPartsAgainstModel(t *testing.T) {
 	for _, head := range append(coreHeads(), tw(impl.CoreBin).numbered(impl.OpDiv), tw(impl.CoreBin).numbered(impl.OpLt)) {
 		t.Run(head.named(), func(t *testing.T) {
 			t.Parallel()
-			var fill func(kids []*twig)
-			fill = func(kids []*twig) {
-				if len(kids) == coreKids(head.op) {
-					w := &twig{head.op, head.num, head.val, kids}
-					for _, v := range values {
-						checkFuels(t, w, v)
-					}
-					return
+			everyChoice(head, pool, besideSelf, func(w *twig) {
+				for _, v := range values {
+					checkFuels(t, w, v)
 				}
-				inner := pool
-				if head.binds(len(kids)) {
-					inner = append(slices.Clone(pool), tw(impl.CoreVar).numbered(head.num), tw(impl.CoreComma, tw(impl.CoreSelf), tw(impl.CoreVar).numbered(head.num)))
-				}
-				for _, kid := range inner {
-					fill(append(slices.Clone(kids), kid))
-				}
-			}
-			fill(nil)
+			})
 		})
 	}
 }
@@ -344,6 +331,48 @@ func (w *twig) named() string {
 // binds tells whether the part at this place is one in which a variable is bound.
 func (w *twig) binds(at int) bool {
 	return w.op == impl.CoreAs && at == 1 || w.op == impl.CoreReduce && at == 2
+}
+
+// everyChoice goes through all twigs of a head whose parts are of a pool and, where
+// it binds a variable, also that one and what is made with it.
+func everyChoice(head *twig, pool []*twig, with func(x *twig) *twig, do func(w *twig)) {
+	x := tw(impl.CoreVar).numbered(head.num)
+	bound := append(slices.Clone(pool), x, with(x))
+	var fill func(kids []*twig)
+	fill = func(kids []*twig) {
+		if len(kids) == coreKids(head.op) {
+			do(&twig{head.op, head.num, head.val, kids})
+			return
+		}
+		inner := pool
+		if head.binds(len(kids)) {
+			inner = bound
+		}
+		for _, kid := range inner {
+			fill(append(slices.Clone(kids), kid))
+		}
+	}
+	fill(nil)
+}
+
+func besideSelf(x *twig) *twig {
+	return tw(impl.CoreComma, tw(impl.CoreSelf), x)
+}
+
+// smallSound goes through all twigs without a fault that have these heads and no
+// more than that many nodes.
+func smallSound(words string, size int, do func(w *twig)) {
+	var heads []*twig
+	for _, head := range strings.Fields(words) {
+		heads = append(heads, readHead(head))
+	}
+	for nodes := range size {
+		for _, w := range smallCores(heads, nodes+1) {
+			if !w.unbound(nil) {
+				do(w)
+			}
+		}
+	}
 }
 
 // All small cores with these heads, those without a fault.
@@ -364,19 +393,11 @@ func TestMeanSmallCoresAgainstModel(t *testing.T) {
 	for name, set := range sets {
 		t.Run(name, func(t *testing.T) {
 			t.Parallel()
-			var heads []*twig
-			for _, head := range strings.Fields(set.heads) {
-				heads = append(heads, readHead(head))
-			}
 			ran := 0
-			for size := 1; size <= set.size; size++ {
-				for _, w := range smallCores(heads, size) {
-					if !w.unbound(nil) {
-						checkFuels(t, w, val(set.v))
-						ran++
-					}
-				}
-			}
+			smallSound(set.heads, set.size, func(w *twig) {
+				checkFuels(t, w, val(set.v))
+				ran++
+			})
 			if ran < 500 {
 				t.Error(ran)
 			}

@@ -356,10 +356,7 @@ func TestMeansArgumentsStayAndAnswersAreNew(t *testing.T) {
 		if !sameCores(list, keptList) || !slices.Equal(v, keptV) || !sameRun(a, keptA) || !sameRun(b, keptB) {
 			t.Errorf("%s, %s, %s or %s is changed", short(keptList), short(keptV), short(keptA), short(keptB))
 		}
-		roomy, roomyList := append(make(cells, 0, len(v)+3), v...), append(make([]core, 0, len(list)+3), list...)
-		for i, c := range roomyList {
-			roomyList[i].Val = append(make(cells, 0, len(c.Val)+3), c.Val...)
-		}
+		roomy, roomyList := append(make(cells, 0, len(v)+3), v...), roomyCores(list)
 		if third := callAllMeans(roomyList, roomy, fuel, program, input, cloneRun(a), b); !reflect.DeepEqual(second, third) || slices.ContainsFunc(roomy[:cap(roomy)][len(roomy):], func(c impl.Cell) bool { return c != impl.Cell{} }) {
 			t.Errorf("%s, %s, %d, %s, %s: %s, then %s", short(list), short(v), fuel, short(program), short(input), short(second), short(third))
 		}

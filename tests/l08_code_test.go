@@ -203,21 +203,8 @@ func TestCompilePartsAgainstModel(t *testing.T) {
 		pool = append(pool, readTwig(part))
 	}
 	for _, head := range coreHeads() {
-		var fill func(kids []*twig)
-		fill = func(kids []*twig) {
-			if len(kids) == coreKids(head.op) {
-				checkCompile(t, &twig{head.op, head.num, head.val, kids})
-				return
-			}
-			inner := pool
-			if head.binds(len(kids)) {
-				inner = append(slices.Clone(pool), tw(impl.CoreVar).numbered(head.num), tw(impl.CoreList, tw(impl.CoreVar).numbered(head.num)))
-			}
-			for _, kid := range inner {
-				fill(append(slices.Clone(kids), kid))
-			}
-		}
-		fill(nil)
+		listed := func(x *twig) *twig { return tw(impl.CoreList, x) }
+		everyChoice(head, pool, listed, func(w *twig) { checkCompile(t, w) })
 	}
 }
 
@@ -235,19 +222,11 @@ func TestCompileSmallCoresAgainstModel(t *testing.T) {
 	for name, set := range sets {
 		t.Run(name, func(t *testing.T) {
 			t.Parallel()
-			var heads []*twig
-			for _, head := range strings.Fields(set.heads) {
-				heads = append(heads, readHead(head))
-			}
 			ran := 0
-			for size := 1; size <= set.size; size++ {
-				for _, w := range smallCores(heads, size) {
-					if !w.unbound(nil) {
-						checkCompile(t, w)
-						ran++
-					}
-				}
-			}
+			smallSound(set.heads, set.size, func(w *twig) {
+				checkCompile(t, w)
+				ran++
+			})
 			if ran < 500 {
 				t.Error(ran)
 			}

@@ -414,14 +414,8 @@ func TestCodesArgumentsStayAndAnswersAreNew(t *testing.T) {
 		if !sameCores(list, keptList) || !slices.EqualFunc(ins, keptIns, sameIn) {
 			t.Errorf("%s or %s is changed", short(keptList), short(keptIns))
 		}
-		roomyList, roomyIns := append(make([]core, 0, len(list)+3), list...), append(make([]in, 0, len(ins)+3), ins...)
-		for i, c := range roomyList {
-			roomyList[i].Val = append(make(cells, 0, len(c.Val)+3), c.Val...)
-		}
-		for i, c := range roomyIns {
-			roomyIns[i].Val = append(make(cells, 0, len(c.Val)+3), c.Val...)
-		}
-		if third := callAllCodes(roomyList, roomyIns, regs); !reflect.DeepEqual(second, third) {
+		roomyList := roomyCores(list)
+		if third := callAllCodes(roomyList, roomyIns(ins), regs); !reflect.DeepEqual(second, third) {
 			t.Errorf("%s, %s, %d: %s, then %s", short(list), short(ins), regs, short(second), short(third))
 		}
 		for _, c := range roomyList {
@@ -437,6 +431,23 @@ func TestCodesArgumentsStayAndAnswersAreNew(t *testing.T) {
 	if got := impl.CodeText(without, 0); got != (impl.TextResult{Text: "0 dup\n1 emit\n"}) {
 		t.Error(got)
 	}
+}
+
+// roomyCores has lists that could be made longer, those without cells, too.
+func roomyCores(list []core) []core {
+	roomy := append(make([]core, 0, len(list)+3), list...)
+	for i, c := range roomy {
+		roomy[i].Val = append(make(cells, 0, len(c.Val)+3), c.Val...)
+	}
+	return roomy
+}
+
+func roomyIns(ins []in) []in {
+	roomy := append(make([]in, 0, len(ins)+3), ins...)
+	for i, c := range roomy {
+		roomy[i].Val = append(make(cells, 0, len(c.Val)+3), c.Val...)
+	}
+	return roomy
 }
 
 func sameIn(a, b in) bool {

@@ -111,30 +111,18 @@ func TestSamePartsAgainstModel(t *testing.T) {
 	for _, head := range append(coreHeads(), tw(impl.CoreBin).numbered(impl.OpDiv), tw(impl.CoreBin).numbered(impl.OpLt)) {
 		t.Run(head.named(), func(t *testing.T) {
 			t.Parallel()
-			var fill func(kids []*twig)
-			fill = func(kids []*twig) {
-				if len(kids) == coreKids(head.op) {
-					list := (&twig{head.op, head.num, head.val, kids}).nodes()
-					compiled := impl.CompileCore(list)
-					for i, v := range values {
-						if !checkSameMeaning(t, list, v) {
-							t.Errorf("%s of %s is cut short", short(twigOf(list)), short(v))
-						}
-						if len(kids) < 3 || i == 2 {
-							checkSteps(t, compiled.Ins, compiled.Regs, v)
-						}
+			everyChoice(head, pool, besideSelf, func(w *twig) {
+				list := w.nodes()
+				compiled := impl.CompileCore(list)
+				for i, v := range values {
+					if !checkSameMeaning(t, list, v) {
+						t.Errorf("%s of %s is cut short", short(w), short(v))
 					}
-					return
+					if len(w.kids) < 3 || i == 2 {
+						checkSteps(t, compiled.Ins, compiled.Regs, v)
+					}
 				}
-				inner := pool
-				if head.binds(len(kids)) {
-					inner = append(slices.Clone(pool), tw(impl.CoreVar).numbered(head.num), tw(impl.CoreComma, tw(impl.CoreSelf), tw(impl.CoreVar).numbered(head.num)))
-				}
-				for _, kid := range inner {
-					fill(append(slices.Clone(kids), kid))
-				}
-			}
-			fill(nil)
+			})
 		})
 	}
 }
@@ -158,18 +146,12 @@ func TestSameSmallCores(t *testing.T) {
 	for name, set := range sets {
 		t.Run(name, func(t *testing.T) {
 			t.Parallel()
-			var heads []*twig
-			for _, head := range strings.Fields(set.heads) {
-				heads = append(heads, readHead(head))
-			}
 			asked := 0
-			for size := 1; size <= set.size; size++ {
-				for _, w := range smallCores(heads, size) {
-					if !w.unbound(nil) && checkSameMeaning(t, w.nodes(), val(set.v)) {
-						asked++
-					}
+			smallSound(set.heads, set.size, func(w *twig) {
+				if checkSameMeaning(t, w.nodes(), val(set.v)) {
+					asked++
 				}
-			}
+			})
 			if asked < 500 {
 				t.Error(asked)
 			}
@@ -397,10 +379,7 @@ func TestRunsArgumentsStayAndAnswersAreNew(t *testing.T) {
 		if !slices.EqualFunc(ins, keptIns, sameIn) || !slices.Equal(v, keptV) {
 			t.Errorf("%s or %s is changed", short(keptIns), short(keptV))
 		}
-		roomy, roomyIns := append(make(cells, 0, len(v)+3), v...), append(make([]in, 0, len(ins)+3), ins...)
-		for i, c := range roomyIns {
-			roomyIns[i].Val = append(make(cells, 0, len(c.Val)+3), c.Val...)
-		}
+		roomy, roomyIns := append(make(cells, 0, len(v)+3), v...), roomyIns(ins)
 		if third := callAllRuns(roomyIns, regs, roomy, steps, program, input); !reflect.DeepEqual(second, third) || slices.ContainsFunc(roomy[:cap(roomy)][len(roomy):], func(c impl.Cell) bool { return c != impl.Cell{} }) {
 			t.Errorf("%s, %d, %s, %d, %s, %s: %s, then %s", short(ins), regs, short(v), steps, short(program), short(input), short(second), short(third))
 		}
