@@ -110,6 +110,15 @@ func coreHeads() []*twig {
 	return list
 }
 
+// headsOfEveryBin are those, and a CoreBin of every other op of two values.
+func headsOfEveryBin() []*twig {
+	list := coreHeads()
+	for op := int64(2); op <= impl.OpMod; op++ {
+		list = append(list, tw(impl.CoreBin).numbered(op))
+	}
+	return list
+}
+
 func TestCoreDepth(t *testing.T) {
 	for _, head := range coreHeads() {
 		for _, depth := range []int{1, 2, 30, 31, 119, 120, 121, 122, 200} {

@@ -217,11 +217,7 @@ func TestPassPartsAgainstModel(t *testing.T) {
 	for _, part := range parts {
 		pool = append(pool, readTwig(part))
 	}
-	heads := coreHeads()
-	for op := int64(2); op <= impl.OpMod; op++ {
-		heads = append(heads, tw(impl.CoreBin).numbered(op))
-	}
-	for _, head := range heads {
+	for _, head := range headsOfEveryBin() {
 		t.Run(head.named()+" "+strconv.FormatInt(head.num, 10), func(t *testing.T) {
 			t.Parallel()
 			tried := func(x *twig) *twig { return tw(impl.CoreTry, x) }
